@@ -1,0 +1,1 @@
+"""Letters through lanes that hold few, and when nobody is ever stuck."""

@@ -1,0 +1,14 @@
+"""The bounds that the promises name."""
+
+MAX_HOUSES = 6
+MAX_LANES = 16
+MAX_ROOM = 4
+MAX_DEEDS = 400
+MAX_MET = 300
+MAX_CHOICES = 16
+MAX_CHANGED = 4
+MAX_PUTS = 40
+MAX_BEAT = 100
+MAX_BEATS = 1000
+MAX_NAMES = 6
+MAX_EDITS = 40

@@ -1,0 +1,252 @@
+"""What the tests share: nets, stands, wrong values, and the rules of the document written once more, plainly."""
+
+import inspect
+import itertools
+import random
+import re
+
+from roomahead.errors import RoomError
+
+WHEEL = (3, ((0, 1, 1), (1, 2, 1), (2, 0, 1)), (((), (0,), (0,)), ((1,), (), (1,)), ((2,), (2,), ())))
+HALL = (
+    3,
+    ((0, 1, 1), (1, 0, 1), (1, 2, 2), (2, 1, 2)),
+    (((), (0,), (0,)), ((1,), (), (2,)), ((3,), (3,), ())),
+)
+FORK = (
+    3,
+    ((0, 1, 1), (1, 2, 1), (2, 0, 1), (1, 0, 1)),
+    (((), (0,), (0,)), ((3,), (), (1,)), ((2,), (2,), ())),
+)
+PAIR = (2, ((0, 1, 1), (1, 0, 2)), (((), (0,)), ((1,), ())))
+TWO = (2, ((0, 1, 2), (0, 1, 1), (1, 0, 1)), (((), (0, 1)), ((2,), ())))
+BLIND = (3, ((0, 1, 2), (1, 2, 1)), (((), (0,), (0,)), ((1,), (), (1,)), ((), (), ())))
+TANGLE = (
+    3,
+    ((0, 1, 3), (1, 2, 1), (2, 0, 1), (1, 0, 2)),
+    (((), (0,), (0,)), ((1,), (), (3,)), ((2,), (2,), ())),
+)
+ALONE = (1, (), (((),),))
+BARE = (2, (), (((), ()), ((), ())))
+UNTOLD = (3, ((0, 1, 2), (1, 2, 4)), (((), (), ()),) * 3)
+SIXTEEN = (2, ((0, 1, 4),) * 10 + ((1, 0, 3),) * 6, (((), tuple(range(10))), (tuple(range(10, 16)), ())))
+
+
+def _six():
+    ends = [(i, (i + 1) % 6) for i in range(6)] + [((i + 1) % 6, i) for i in range(6)]
+    ends += [(0, 3), (3, 0), (1, 4), (4, 1)]
+    lanes = tuple((start, end, 1 + k % 4) for k, (start, end) in enumerate(ends))
+    starting = [tuple(k for k, lane in enumerate(lanes) if lane[0] == u) for u in range(6)]
+    return (6, lanes, tuple(tuple(() if d == u else starting[u] for d in range(6)) for u in range(6)))
+
+
+SIX = _six()
+NETS = (WHEEL, HALL, FORK, PAIR, TWO, BLIND, TANGLE, ALONE, BARE, UNTOLD, SIXTEEN, SIX)
+SMALL_NETS = (WHEEL, HALL, FORK, PAIR, TWO, BLIND, ALONE, BARE, UNTOLD)
+
+WRONG_VALUES = (
+    None, True, False, 0, 1, -1, 3, 10 ** 399, -(10 ** 399), "", "0", "in", "none", (), (()), ((),), (0,), (0, 1),
+    (0, 1, 1), (True,), [], [0], [0, 1, 1], {}, {0: 1}, {"in": [0, 1]}, [[], ()], (None,), ("a", "b", "c"),
+    ((((((((((((((((((((),),),),),),),),),),),),),),),),),),),), [[[[[[[[[[[[[[[[[[[[]]]]]]]]]]]]]]]]]]]],
+)
+
+
+def random_net(chance, houses=None, many=None):
+    """Any net; chance is a random.Random."""
+    houses = chance.randint(1, 6) if houses is None else houses
+    many = chance.randint(0, 16) if many is None else many
+    if houses == 1:
+        many = 0
+    lanes = tuple((*chance.sample(range(houses), 2), chance.randint(1, 4)) for _ in range(many))
+    tables = []
+    for u in range(houses):
+        starting = [k for k in range(many) if lanes[k][0] == u]
+        entries = [tuple(k for k in starting if chance.random() < 0.6) for _ in range(houses)]
+        entries[u] = ()
+        tables.append(tuple(entries))
+    return (houses, lanes, tuple(tables))
+
+
+def random_nets(seed, many):
+    chance = random.Random(seed)
+    return [random_net(chance) for _ in range(many)] + [random_net(chance, 6, 16), random_net(chance, 6, 0)]
+
+
+def plain_aims(net, lane):
+    """The aims that a lane serves, straight from the tables."""
+    return [d for u in range(net[0]) for d in range(net[0]) if net[1][lane][0] == u and lane in net[2][u][d]]
+
+
+def all_stands(net):
+    """Every stand of net."""
+    fillings = [
+        [row for many in range(room + 1) for row in itertools.product(plain_aims(net, k), repeat=many)]
+        for k, (_, _, room) in enumerate(net[1])
+    ]
+    return list(itertools.product(*fillings))
+
+
+def random_stand(chance, net):
+    """Any stand of net; full lanes are met often."""
+    stand = []
+    for k, (_, _, room) in enumerate(net[1]):
+        served = plain_aims(net, k)
+        many = chance.choice((0, room, chance.randint(0, room))) if served else 0
+        stand.append(tuple(chance.choice(served) for _ in range(many)))
+    return tuple(stand)
+
+
+def some_stands(net, seed=0):
+    """Every stand of a small net, some of a great one."""
+    if net in SMALL_NETS and net != HALL:
+        return all_stands(net)
+    chance = random.Random(seed)
+    return [((),) * len(net[1])] + [random_stand(chance, net) for _ in range(40)]
+
+
+def plain_deeds(net):
+    """All deeds of net, ascending."""
+    lanes = range(len(net[1]))
+    deeds = [("in", lane, aim) for lane in lanes for aim in range(net[0])]
+    deeds += [("on", lane, other) for lane in lanes for other in lanes]
+    return sorted(deeds + [("out", lane) for lane in lanes])
+
+
+def plain_done(net, stand, deed):
+    """The stand behind a deed of net by B3, None if it can't be done."""
+    lying = [list(letters) for letters in stand]
+    start, end, room = net[1][deed[1]]
+    if deed[0] == "in":
+        if deed[1] not in net[2][start][deed[2]] or len(lying[deed[1]]) >= room:
+            return None
+        lying[deed[1]].append(deed[2])
+    else:
+        if not lying[deed[1]]:
+            return None
+        letter = lying[deed[1]].pop(0)
+        if deed[0] == "out":
+            if letter != end:
+                return None
+        else:
+            if deed[2] not in net[2][end][letter] or len(lying[deed[2]]) >= net[1][deed[2]][2]:
+                return None
+            lying[deed[2]].append(letter)
+    return tuple(tuple(letters) for letters in lying)
+
+
+def random_walk(chance, net, stand, many):
+    """A list of deeds, at most so many, that can be done from stand on one behind another."""
+    walk = []
+    for _ in range(many):
+        going = [deed for deed in plain_deeds(net) if plain_done(net, stand, deed) is not None]
+        if not going:
+            break
+        # Without this the nets fill up, and moves are seldom met.
+        others = [deed for deed in going if deed[0] != "in"]
+        deed = chance.choice(others if others and chance.random() < 0.6 else going)
+        walk.append(deed)
+        stand = plain_done(net, stand, deed)
+    return walk
+
+
+NUMBER = "(0|[1-9][0-9]*)"
+
+
+def plain_read_net(text):
+    """The net of which text is the text by A8, None if there is none; line by line, by patterns."""
+    lines = text.split("\n")
+    head = re.fullmatch(f"houses {NUMBER}", lines[0])
+    if not head or len(head[1]) > 1 or not 1 <= int(head[1]) <= 6:
+        return None
+    houses, lanes, entries, last = int(head[1]), [], {}, (-1, -1)
+    for line in lines[1:]:
+        lane = re.fullmatch(f"lane {NUMBER} {NUMBER} {NUMBER}", line)
+        way = re.fullmatch(f"way {NUMBER} {NUMBER}:((?: {NUMBER})+)", line)
+        if lane and not entries:
+            if max(map(len, lane.groups())) > 1:
+                return None
+            lanes.append(tuple(map(int, lane.groups())))
+        elif way:
+            words = [way[1], way[2]] + way[3].split()
+            if max(map(len, words)) > 2:
+                return None
+            at, entry = (int(way[1]), int(way[2])), [int(word) for word in words[2:]]
+            if at <= last or max(at) >= houses or at[0] == at[1] or entry != sorted(set(entry)):
+                return None
+            if max(entry) >= len(lanes) or any(lanes[k][0] != at[0] for k in entry):
+                return None
+            entries[at] = tuple(entry)
+            last = at
+        else:
+            return None
+    if len(lanes) > 16 or any(s == e or max(s, e) >= houses or not 1 <= room <= 4 for s, e, room in lanes):
+        return None
+    tables = tuple(tuple(entries.get((u, d), ()) for d in range(houses)) for u in range(houses))
+    return (houses, tuple(lanes), tables)
+
+
+def plain_read_deeds(text):
+    """The deeds of which text is the text by B6, None if there are none; by patterns."""
+    if text == "none":
+        return ()
+    lane, aim = "(?:[0-9]|1[0-5])", "[0-5]"
+    one = f"(?:in {lane} {aim}|on {lane} {lane}|out {lane})"
+    if not re.fullmatch(f"{one}(?:; {one})*", text):
+        return None
+    deeds = [part.split(" ") for part in text.split("; ")]
+    if len(deeds) > 400:
+        return None
+    return tuple((deed[0], *map(int, deed[1:])) for deed in deeds)
+
+
+def spoiled(text, signs):
+    """Texts near to text: a sign or a line left out, put in, doubled, or in another place."""
+    for i in range(len(text) + 1):
+        yield from (text[:i] + sign + text[i:] for sign in signs)
+        yield text[:i] + text[i + 1:]
+        yield text[:i] + text[i:i + 1] + text[i:]
+        yield from (text[:i] + sign + text[i + 1:] for sign in signs)
+    lines = text.split("\n")
+    for i in range(len(lines)):
+        yield "\n".join(lines[:i] + lines[i + 1:])
+        yield "\n".join(lines[:i] + [lines[i]] + lines[i:])
+        for k in range(i):
+            yield "\n".join(lines[:k] + [lines[i]] + lines[k + 1:i] + [lines[k]] + lines[i + 1:])
+
+
+def outcome(function, places, names):
+    """What a call comes to: ("returned", result), or ("raised", the class of the error, its fields)."""
+    try:
+        return ("returned", function(*places, **names))
+    except RoomError as error:
+        return ("raised", type(error), vars(error))
+
+
+def asked(function, *given):
+    """What a call comes to; by place, by name and once more it must be the same, and what is given stays as it is.
+
+    Results are compared as they are shown, since True is not 1, nor a list a tuple.
+    """
+    before = repr(given)
+    by_place = outcome(function, given, {})
+    shown = repr(by_place)
+    by_name = outcome(function, (), dict(zip(inspect.signature(function).parameters, given)))
+    assert repr(by_name) == shown, (function, given, by_place, by_name)
+    assert repr(outcome(function, given, {})) == shown, (function, given, by_place)
+    assert repr(by_place) == shown, (function, given, by_place)
+    assert repr(given) == before, (function, given, before)
+    return by_place
+
+
+def result(function, *given):
+    """What the function returns, asked as above."""
+    word, *told = asked(function, *given)
+    assert word == "returned", (function, given, told)
+    return told[0]
+
+
+def fields(kind, function, *given):
+    """The fields of the error of this very class that the function raises, asked as above."""
+    word, *told = asked(function, *given)
+    assert (word, told[0]) == ("raised", kind), (function, given, word, told)
+    return told[1]

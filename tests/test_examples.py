@@ -1,0 +1,105 @@
+"""The examples of the document, as they stand there. Names that were set once stay set."""
+
+import doctest
+import pathlib
+import unittest
+
+from roomahead import errors
+
+EXAMPLES = {
+    "A5": r"""
+>>> from roomahead.nets import ahead, aims, net_error, relaned, renamed, serves
+>>> wheel = (3, ((0, 1, 1), (1, 2, 1), (2, 0, 1)), (((), (0,), (0,)), ((1,), (), (1,)), ((2,), (2,), ())))
+>>> hall = (3, ((0, 1, 1), (1, 0, 1), (1, 2, 2), (2, 1, 2)), (((), (0,), (0,)), ((1,), (), (2,)), ((3,), (3,), ())))
+>>> fork = (3, ((0, 1, 1), (1, 2, 1), (2, 0, 1), (1, 0, 1)), (((), (0,), (0,)), ((3,), (), (1,)), ((2,), (2,), ())))
+>>> pair = (2, ((0, 1, 1), (1, 0, 2)), (((), (0,)), ((1,), ())))
+>>> [net_error(value) for value in (wheel, fork, pair, hall, (1, (), (((),),)), (2, (), (((), ()), ((), ()))), hall[:2], list(hall), None)]
+[None, None, None, None, None, None, 'form', 'form', 'form']
+>>> [net_error((houses,) + hall[1:]) for houses in (0, 7, True, "3", 4)]
+['houses', 'houses', 'houses', 'houses', 'tables']
+>>> [net_error((3, lanes, hall[2])) for lanes in ([], ((0, 1, 1),) * 17, ((0, 1, 1), (1, 1, 1)), ((0, 3, 1),), ((0, 1, 5),), ((0, 1),), hall[1][:3])]
+['lanes', 'lanes', ('lane', 1), ('lane', 0), ('lane', 0), ('lane', 0), ('table', 2, 0)]
+>>> [net_error((3, hall[1], tables)) for tables in (hall[2][:2], ((), (), ()), (hall[2][0], [], hall[2][2]), (((), (0, 0), (0,)),) + hall[2][1:], (((0,), (0,), (0,)),) + hall[2][1:], (((), (1,), (0,)),) + hall[2][1:])]
+['tables', ('house', 0), ('house', 1), ('table', 0, 1), ('table', 0, 0), ('table', 0, 1)]
+""",
+    "A6": r"""
+>>> serves(hall, 0, 2), serves(hall, 1, 2), aims(hall, 0), aims(hall, 2), aims(hall, 3), aims(wheel, 0)
+(True, False, (1, 2), (2,), (0, 1), (1, 2))
+>>> ahead(hall, 0, 2), ahead(hall, 0, 1), ahead(hall, 3, 0), ahead(hall, 0, 0), ahead(wheel, 0, 2)
+((2,), (), (1,), (1,), (1,))
+""",
+    "A7": r"""
+>>> renamed(wheel, (1, 2, 0))
+(3, ((2, 0, 1), (0, 1, 1), (1, 2, 1)), (((), (1,), (1,)), ((2,), (), (2,)), ((0,), (0,), ())))
+>>> relaned(wheel, (2, 0, 1))
+(3, ((2, 0, 1), (0, 1, 1), (1, 2, 1)), (((), (1,), (1,)), ((2,), (), (2,)), ((0,), (0,), ())))
+>>> renamed(hall, (0, 1, 2)) == hall, relaned(hall, (0, 1, 2, 3)) == hall, renamed((1, (), (((),),)), (0,))
+(True, True, (1, (), (((),),)))
+>>> relaned((2, ((0, 1, 1), (0, 1, 3)), (((), (0, 1)), ((), ()))), (1, 0))
+(2, ((0, 1, 3), (0, 1, 1)), (((), (0, 1)), ((), ())))
+""",
+}
+
+
+def calls(section):
+    """The pairs of a call and what is told behind it, "" if it only sets names."""
+    pairs = []
+    for line in EXAMPLES[section].strip().split("\n"):
+        if line.startswith(">>> "):
+            pairs.append([line[4:], ""])
+        else:
+            pairs[-1][1] = line
+    return pairs
+
+
+def names_ahead(section):
+    """The names that the examples ahead of this section set."""
+    names = {}
+    for other in EXAMPLES:
+        if other == section:
+            return names
+        for call, told in calls(other):
+            if told == "":
+                exec(call, names)
+
+
+class Examples(unittest.TestCase):
+
+    def run_section(self, section):
+        names = names_ahead(section)
+        checked = 0
+        for call, told in calls(section):
+            with self.subTest(call=call):
+                if told == "":
+                    exec(call, names)
+                elif told.startswith("raises "):
+                    self.check_error(call, eval(told[len("raises "):], dict(vars(errors))), names)
+                    checked += 1
+                else:
+                    self.assertEqual(repr(eval(call, names)), told)
+                    checked += 1
+        self.assertGreater(checked, 1)
+
+    def check_error(self, call, error, names):
+        with self.assertRaises(errors.RoomError) as caught:
+            eval(call, names)
+        self.assertIs(type(caught.exception), type(error))
+        self.assertEqual(repr(vars(caught.exception)), repr(vars(error)))
+
+    def test_a5_net_error(self):
+        self.run_section("A5")
+
+    def test_a6_serves_aims_ahead(self):
+        self.run_section("A6")
+
+    def test_a7_renamed_relaned(self):
+        self.run_section("A7")
+
+    def test_the_readme(self):
+        readme = pathlib.Path(__file__).resolve().parent.parent / "README.md"
+        failed, tried = doctest.testfile(str(readme), module_relative=False)
+        self.assertEqual((failed, tried > 3), (0, True))
+
+
+if __name__ == "__main__":
+    unittest.main()

@@ -38,6 +38,71 @@ EXAMPLES = {
 >>> relaned((2, ((0, 1, 1), (0, 1, 3)), (((), (0, 1)), ((), ()))), (1, 0))
 (2, ((0, 1, 3), (0, 1, 1)), (((), (0, 1)), ((), ())))
 """,
+    "A8": r"""
+>>> from roomahead.nettexts import net_text, read_net
+>>> net_text(wheel).split("\n")
+['houses 3', 'lane 0 1 1', 'lane 1 2 1', 'lane 2 0 1', 'way 0 1: 0', 'way 0 2: 0', 'way 1 0: 1', 'way 1 2: 1', 'way 2 0: 2', 'way 2 1: 2']
+>>> net_text((1, (), (((),),))), read_net("houses 2\nlane 0 1 4\nlane 0 1 1\nway 0 1: 0 1"), read_net(net_text(hall)) == hall
+('houses 1', (2, ((0, 1, 4), (0, 1, 1)), (((), (0, 1)), ((), ()))), True)
+>>> read_net("houses 2\nlane 0 1 1\nway 0 1: 0\n")
+raises BadText()
+>>> read_net("houses 2\nlane 0 1 1\nway 1 0: 0")
+raises BadText()
+>>> read_net("houses 2\nlane 0 1 1\nway 0 1:")
+raises BadText()
+>>> read_net("houses 02")
+raises BadText()
+""",
+    "B2": r"""
+>>> from roomahead.stands import empty, stand_error
+>>> empty(wheel), empty((2, (), (((), ()), ((), ()))))
+(((), (), ()), ())
+>>> [stand_error(wheel, value) for value in (((), (), ()), ((1,), (), ()), ((0,), (), ()), ((1, 2), (), ()), ((), ()), [(), (), ()], ((), (), [1]), ((True,), (), ()))]
+[None, None, ('lane', 0), ('lane', 0), 'form', 'form', ('lane', 2), ('lane', 0)]
+""",
+    "B4": r"""
+>>> from roomahead.moving import deed_error, done, held_fast, led, moves, open_deeds, stuck
+>>> full = ((2,), (0,), (1,))
+>>> [deed_error(wheel, empty(wheel), value) for value in (("in", 0, 2), ("in", 0, 0), ("on", 0, 1), ("out", 1), ("out", 3), ("in", 0), ["out", 0])]
+[None, 'bar', 'bar', 'bar', 'form', 'form', 'form']
+>>> [deed_error(wheel, full, value) for value in (("in", 0, 1), ("on", 0, 1), ("out", 0), ("out", 0, 0), ("on", 0, True), ("put", 0, 1), None)]
+['bar', 'bar', 'bar', 'form', 'form', 'form', 'form']
+>>> done(wheel, empty(wheel), ("in", 0, 2)), done(wheel, ((2,), (), ()), ("on", 0, 1)), done(wheel, ((), (2,), ()), ("out", 1))
+(((2,), (), ()), ((), (2,), ()), ((), (), ()))
+>>> done(wheel, ((2,), (), ()), ("on", 0, 2))
+raises Refused(('on', 0, 2))
+>>> led(wheel, empty(wheel), (("in", 0, 2), ("in", 1, 0), ("in", 2, 1))) == full, led(wheel, full, ()) == full
+(True, True)
+>>> led(wheel, empty(wheel), (("in", 0, 2), ("in", 0, 1), ("out", 0)))
+raises Refused(('in', 0, 1))
+""",
+    "B5": r"""
+>>> open_deeds(wheel, empty(wheel)) == (("in", 0, 1), ("in", 0, 2), ("in", 1, 0), ("in", 1, 2), ("in", 2, 0), ("in", 2, 1)), moves(wheel, empty(wheel))
+(True, ())
+>>> open_deeds(wheel, ((2,), (), (1,))), moves(wheel, ((2,), (), (1,)))
+((('in', 1, 0), ('in', 1, 2), ('on', 0, 1)), (('on', 0, 1),))
+>>> two = (2, ((0, 1, 2), (0, 1, 1), (1, 0, 1)), (((), (0, 1)), ((2,), ())))
+>>> open_deeds(two, ((1, 1), (), ())), moves(two, ((), (1,), (0,)))
+((('in', 1, 1), ('in', 2, 0), ('out', 0)), (('out', 1), ('out', 2)))
+>>> [(stuck(wheel, stand), held_fast(wheel, stand)) for stand in (empty(wheel), ((2,), (), (1,)), full)]
+[(False, False), (False, False), (True, True)]
+>>> blind = (3, ((0, 1, 2), (1, 2, 1)), (((), (0,), (0,)), ((1,), (), (1,)), ((), (), ())))
+>>> [(stuck(blind, stand), held_fast(blind, stand)) for stand in (((2, 1), (0,)), ((2, 2), (0,)), ((), (0,)), ((1, 2), (0,)))]
+[(True, False), (True, True), (True, True), (False, False)]
+""",
+    "B6": r"""
+>>> from roomahead.deedtexts import deeds_text, read_deeds
+>>> deeds_text((("in", 0, 1), ("on", 0, 2), ("out", 2))), deeds_text(()), read_deeds("out 15; in 0 5"), read_deeds("none")
+('in 0 1; on 0 2; out 2', 'none', (('out', 15), ('in', 0, 5)), ())
+>>> read_deeds("in 0 1;on 0 2")
+raises BadText()
+>>> read_deeds("in 0 6")
+raises BadText()
+>>> read_deeds("out 02")
+raises BadText()
+>>> read_deeds("out 1; none")
+raises BadText()
+""",
 }
 
 
@@ -94,6 +159,21 @@ class Examples(unittest.TestCase):
 
     def test_a7_renamed_relaned(self):
         self.run_section("A7")
+
+    def test_a8_net_texts(self):
+        self.run_section("A8")
+
+    def test_b2_stands(self):
+        self.run_section("B2")
+
+    def test_b4_deed_error_done_led(self):
+        self.run_section("B4")
+
+    def test_b5_open_deeds_moves_stuck(self):
+        self.run_section("B5")
+
+    def test_b6_deed_texts(self):
+        self.run_section("B6")
 
     def test_the_readme(self):
         readme = pathlib.Path(__file__).resolve().parent.parent / "README.md"

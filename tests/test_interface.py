@@ -12,6 +12,13 @@ FUNCTIONS = {
         "net_error": "value", "serves": "net lane aim", "aims": "net lane", "ahead": "net lane aim",
         "renamed": "net order", "relaned": "net order",
     },
+    "nettexts": {"net_text": "net", "read_net": "value"},
+    "stands": {"stand_error": "net value", "empty": "net"},
+    "moving": {
+        "deed_error": "net stand value", "done": "net stand deed", "led": "net stand deeds",
+        "open_deeds": "net stand", "moves": "net stand", "stuck": "net stand", "held_fast": "net stand",
+    },
+    "deedtexts": {"deeds_text": "deeds", "read_deeds": "value"},
 }
 
 BOUNDS = {

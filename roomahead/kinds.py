@@ -1,10 +1,15 @@
 """What kind of value a value is, and which integer a word tells: asked by several modules."""
 
 
+def is_integer(value):
+    """Return whether value is an integer."""
+    # Python counts True and False as 1 and 0; here they are no integers.
+    return isinstance(value, int) and not isinstance(value, bool)
+
+
 def within(value, least, greatest):
     """Return whether value is an integer from least to greatest."""
-    # Python counts True and False as 1 and 0; here they are no integers.
-    return isinstance(value, int) and not isinstance(value, bool) and least <= value <= greatest
+    return is_integer(value) and least <= value <= greatest
 
 
 def is_tuple_of(value, many):

@@ -4,6 +4,7 @@ import inspect
 import itertools
 import random
 import re
+import time
 
 from roomahead.errors import RoomError
 
@@ -26,6 +27,9 @@ TANGLE = (
     ((0, 1, 3), (1, 2, 1), (2, 0, 1), (1, 0, 2)),
     (((), (0,), (0,)), ((1,), (), (3,)), ((2,), (2,), ())),
 )
+LOST = (3, ((0, 1, 2),), (((), (), (0,)), ((), (), ()), ((), (), ())))
+WANDER = (3, ((0, 1, 1), (1, 0, 1), (1, 2, 1)), (((), (), (0,)), ((), (), (1, 2)), ((), (), ())))
+DEAD = (3, ((0, 1, 1),), (((), (), (0,)), ((), (), ()), ((), (), ())))
 ALONE = (1, (), (((),),))
 BARE = (2, (), (((), ()), ((), ())))
 UNTOLD = (3, ((0, 1, 2), (1, 2, 4)), (((), (), ()),) * 3)
@@ -43,6 +47,8 @@ def _six():
 SIX = _six()
 NETS = (WHEEL, HALL, FORK, PAIR, TWO, BLIND, TANGLE, ALONE, BARE, UNTOLD, SIXTEEN, SIX)
 SMALL_NETS = (WHEEL, HALL, FORK, PAIR, TWO, BLIND, ALONE, BARE, UNTOLD)
+# Nets with few lots or none, that have few lanes; and all told here.
+LOT_NETS = (WHEEL, HALL, FORK, PAIR, TWO, BLIND, TANGLE, LOST, WANDER, DEAD, ALONE, BARE, UNTOLD)
 
 WRONG_VALUES = (
     None, True, False, 0, 1, -1, 3, 10 ** 399, -(10 ** 399), "", "0", "in", "none", (), (()), ((),), (0,), (0, 1),
@@ -70,6 +76,79 @@ def random_net(chance, houses=None, many=None):
 def random_nets(seed, many):
     chance = random.Random(seed)
     return [random_net(chance) for _ in range(many)] + [random_net(chance, 6, 16), random_net(chance, 6, 0)]
+
+
+def small_nets(seed, many, houses=4, lanes=5, room=2):
+    """Nets with few lanes and rooms, so many; of each sort of tables, sparse and full ones, some."""
+    chance = random.Random(seed)
+    found = []
+    for _ in range(many):
+        houses_now = chance.randint(2, houses)
+        ends = [tuple(chance.sample(range(houses_now), 2)) for _ in range(chance.randint(1, lanes))]
+        told = tuple((*pair, chance.randint(1, room)) for pair in ends)
+        found.append((houses_now, told, some_tables(chance, houses_now, told, chance.choice((0.5, 0.8, 1)))))
+    return found
+
+
+def some_tables(chance, houses, lanes, part, least=0):
+    """Tables in which lanes stand by this chance, but few are empty where a lane starts: so few lanes are dead ends.
+
+    With least being 1 none is empty there.
+    """
+    tables = []
+    for u in range(houses):
+        starting = [k for k in range(len(lanes)) if lanes[k][0] == u]
+        entries = []
+        for d in range(houses):
+            entry = [k for k in starting if chance.random() < part] or starting[:chance.randint(least, 5)]
+            entries.append(() if d == u else tuple(entry))
+        tables.append(tuple(entries))
+    return tuple(tables)
+
+
+def great_nets(seed, many):
+    """Nets of six houses and sixteen lanes, so many; each other one has no dead ends."""
+    chance = random.Random(seed)
+    found = []
+    for k in range(many):
+        ends = [(u, (u + 1) % 6) for u in range(6)] + [tuple(chance.sample(range(6), 2)) for _ in range(10)]
+        lanes = tuple((*pair, chance.randint(1, 4)) for pair in chance.sample(ends, 16))
+        found.append((6, lanes, some_tables(chance, 6, lanes, chance.choice((0, 0.3, 0.6)), k % 2)))
+    return found
+
+
+def downhill_net(chance, houses=None, many=None):
+    """A net whose lanes all lead to greater houses, each table told so that letters come home: it settles."""
+    houses = chance.randint(2, 6) if houses is None else houses
+    many = chance.randint(1, 16) if many is None else many
+    lanes = tuple((*sorted(chance.sample(range(houses), 2)), chance.randint(1, 2)) for _ in range(many))
+    led = {(u, u) for u in range(houses)}
+    for u in reversed(range(houses)):
+        led |= {(u, d) for start, end, _ in lanes for d in range(houses) if start == u and (end, d) in led}
+    tables = tuple(
+        tuple(tuple(k for k, lane in enumerate(lanes) if lane[0] == u and (lane[1], d) in led) for d in range(houses))
+        for u in range(houses)
+    )
+    return (houses, lanes, tables)
+
+
+def net_with_entry(net, house, aim, entry):
+    """The net with another entry in its tables."""
+    table = net[2][house][:aim] + (entry,) + net[2][house][aim + 1:]
+    return (*net[:2], net[2][:house] + (table,) + net[2][house + 1:])
+
+
+def grown_net(chance, houses=6, many=16):
+    """A free net: choices are added to empty tables in any order, each if the net stays free with it."""
+    lanes = tuple((*chance.sample(range(houses), 2), chance.randint(1, 4)) for _ in range(many))
+    net = (houses, lanes, (((),) * houses,) * houses)
+    choices = [(lane[0], d, k) for k, lane in enumerate(lanes) for d in range(houses) if d != lane[0]]
+    # Behind the first going through choices whose lanes lead on to nothing were left out; so they are tried again.
+    for u, d, k in chance.sample(choices, len(choices)) + chance.sample(choices, len(choices)):
+        more = net_with_entry(net, u, d, tuple(sorted({*net[2][u][d], k})))
+        if 0 not in plain_waves(more):
+            net = more
+    return net
 
 
 def plain_aims(net, lane):
@@ -147,6 +226,106 @@ def random_walk(chance, net, stand, many):
         walk.append(deed)
         stand = plain_done(net, stand, deed)
     return walk
+
+
+def plain_ahead(net, lane, aim):
+    return net[2][net[1][lane][1]][aim]
+
+
+def plain_open(net, lane):
+    """The open aims of a lane by C1."""
+    return [aim for aim in plain_aims(net, lane) if aim != net[1][lane][1]]
+
+
+def plain_waves(net):
+    """The waves by C1, lane by lane."""
+    told = {}
+    for wave in range(1, len(net[1]) + 1):
+        earlier = set(told)
+        for lane in set(range(len(net[1]))) - earlier:
+            if all(earlier & set(plain_ahead(net, lane, aim)) for aim in plain_open(net, lane)):
+                told[lane] = wave
+    return tuple(told.get(lane, 0) for lane in range(len(net[1])))
+
+
+def plain_lots(net):
+    """All lots of a net with few lanes, ascending: for each lane no aim, or any one of its open aims."""
+    fits = itertools.product(*[[None] + plain_open(net, lane) for lane in range(len(net[1]))])
+    lots = []
+    for aims in fits:
+        lanes = {lane for lane, aim in enumerate(aims) if aim is not None}
+        if lanes and all(set(plain_ahead(net, lane, aims[lane])) <= lanes for lane in lanes):
+            lots.append(tuple((lane, aims[lane]) for lane in sorted(lanes)))
+    return sorted(lots)
+
+
+def plain_lot_error(net, value):
+    """What lot_error has to tell by C3."""
+    if type(value) is not tuple or not value:
+        return "form"
+    for pair in value:
+        if type(pair) is not tuple or len(pair) != 2 or {type(item) for item in pair} != {int}:
+            return "form"
+    lanes = [lane for lane, _ in value]
+    if lanes != sorted(set(lanes)):
+        return "form"
+    for place, (lane, aim) in enumerate(value):
+        if lane not in range(len(net[1])) or aim not in plain_open(net, lane):
+            return ("pair", place)
+    for place, (lane, aim) in enumerate(value):
+        if not set(plain_ahead(net, lane, aim)) <= set(lanes):
+            return ("open", place)
+    return None
+
+
+def plain_row_error(net, value):
+    """What row_error has to tell by C4."""
+    if type(value) is not tuple or any(type(lane) is not int for lane in value):
+        return "form"
+    if sorted(value) != [lane for lane in range(len(net[1]))]:
+        return "form"
+    for place, lane in enumerate(value):
+        if not all(set(value[:place]) & set(plain_ahead(net, lane, aim)) for aim in plain_open(net, lane)):
+            return ("lane", place)
+    return None
+
+
+def letters(stand):
+    """How many letters lie in the stand."""
+    return sum(len(lane) for lane in stand)
+
+
+def plain_moves(net, stand):
+    """The moves that can be done in stand, each with the stand behind it."""
+    tried = [(deed, plain_done(net, stand, deed)) for deed in plain_deeds(net) if deed[0] != "in"]
+    return [(deed, behind) for deed, behind in tried if behind is not None]
+
+
+def plain_stuck(net, stand):
+    return letters(stand) > 0 and not plain_moves(net, stand)
+
+
+def plain_ways(net, house, aim, most=20):
+    """All ways of the aim from the house by E1, of at most so many lanes."""
+    found = [()] if house == aim else []
+    rows = [(lane,) for lane in net[2][house][aim]] if most else []
+    while rows:
+        row = rows.pop()
+        if net[1][row[-1]][1] == aim:
+            found.append(row)
+        elif len(row) < most:
+            rows += [row + (lane,) for lane in plain_ahead(net, row[-1], aim)]
+    return found
+
+
+def plain_has_ring(net, aim):
+    """Whether from some lane one comes back to it by lanes ahead."""
+    lanes = range(len(net[1]))
+    met = {(k, other) for k in lanes for other in plain_ahead(net, k, aim)}
+    for middle, one, two in itertools.product(lanes, repeat=3):
+        if (one, middle) in met and (middle, two) in met:
+            met.add((one, two))
+    return any((k, k) in met for k in lanes)
 
 
 NUMBER = "(0|[1-9][0-9]*)"
@@ -243,6 +422,21 @@ def result(function, *given):
     word, *told = asked(function, *given)
     assert word == "returned", (function, given, told)
     return told[0]
+
+
+def steady(calls):
+    """Whether calls, pairs of a function and its arguments, come to the same again in another order."""
+    first = [repr(outcome(function, given, {})) for function, given in calls]
+    again = [repr(outcome(function, given, {})) for function, given in reversed(calls)]
+    return first == again[::-1]
+
+
+def in_time(function, *given):
+    """What the function returns, or raises, if that takes few seconds."""
+    begun = time.monotonic()
+    told = outcome(function, given, {})
+    assert time.monotonic() - begun < 5, (function, given)
+    return told
 
 
 def fields(kind, function, *given):

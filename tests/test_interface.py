@@ -19,6 +19,16 @@ FUNCTIONS = {
         "open_deeds": "net stand", "moves": "net stand", "stuck": "net stand", "held_fast": "net stand",
     },
     "deedtexts": {"deeds_text": "deeds", "read_deeds": "value"},
+    "lots": {
+        "free": "net", "waves": "net", "lot_error": "net value", "greatest_lot": "net", "joined": "one other",
+        "filling": "net lot",
+    },
+    "papers": {"row_error": "net value", "paper": "net", "paper_error": "net value"},
+    "prices": {"price": "net lot", "cheapest_lot": "net", "most_letters": "net", "soonest_stuck": "net"},
+    "homes": {
+        "ring": "net aim", "dead_ends": "net", "settles": "net", "longest": "net aim", "measure": "net stand",
+        "wayless": "net",
+    },
 }
 
 BOUNDS = {

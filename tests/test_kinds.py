@@ -2,11 +2,17 @@
 
 import unittest
 
-from roomahead.kinds import is_deed, is_tuple_of, number_told, within
+from roomahead.kinds import is_deed, is_integer, is_tuple_of, number_told, within
 from tests.helper import WRONG_VALUES, result
 
 
 class Kinds(unittest.TestCase):
+
+    def test_is_integer(self):
+        for value in (-1, 0, 1, 10 ** 399, -(10 ** 399)):
+            self.assertIs(result(is_integer, value), True)
+        for value in WRONG_VALUES:
+            self.assertIs(result(is_integer, value), type(value) is int)
 
     def test_within(self):
         for value in range(-3, 9):

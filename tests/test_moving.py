@@ -9,8 +9,8 @@ from roomahead.moving import deed_error, done, held_fast, led, moves, open_deeds
 from roomahead.nets import aims
 from roomahead.stands import empty, stand_error
 from tests.helper import (
-    ALONE, BARE, BLIND, FORK, HALL, NETS, PAIR, SIX, SIXTEEN, TWO, UNTOLD, WHEEL, WRONG_VALUES, fields, plain_deeds,
-    plain_done, random_nets, random_stand, random_walk, result, some_stands,
+    ALONE, BARE, BLIND, FORK, HALL, NETS, PAIR, SIX, SIXTEEN, TWO, UNTOLD, WHEEL, WRONG_VALUES, fields, letters,
+    plain_deeds, plain_done, random_nets, random_stand, random_walk, result, some_stands,
 )
 
 RANDOM_NETS = tuple(random_nets(8, 12))
@@ -24,10 +24,6 @@ def nets_and_stands(seed=9):
     pairs = [(net, stand) for net in NETS for stand in some_stands(net, seed)[:60]]
     chance = random.Random(seed)
     return pairs + [(net, random_stand(chance, net)) for net in RANDOM_NETS for _ in range(6)]
-
-
-def letters(stand):
-    return sum(len(lane) for lane in stand)
 
 
 class DeedError(unittest.TestCase):

@@ -6,8 +6,8 @@ import unittest
 
 from roomahead.nets import ahead, aims, net_error, relaned, renamed, serves
 from tests.helper import (
-    ALONE, BARE, HALL, NETS, SIX, SIXTEEN, SMALL_NETS, WHEEL, WRONG_VALUES, asked, plain_aims, random_net,
-    random_nets, result,
+    ALONE, BARE, HALL, NETS, SIX, SIXTEEN, SMALL_NETS, WHEEL, WRONG_VALUES, asked, net_with_entry, plain_aims,
+    random_net, random_nets, result,
 )
 
 HUGE = 10 ** 399
@@ -21,8 +21,7 @@ def with_lane(lane, at=0):
 
 def with_entry(entry, house=1, aim=0, net=HALL):
     """The net with another value for one entry of its tables."""
-    table = net[2][house][:aim] + (entry,) + net[2][house][aim + 1:]
-    return (*net[:2], net[2][:house] + (table,) + net[2][house + 1:])
+    return net_with_entry(net, house, aim, entry)
 
 
 class NetError(unittest.TestCase):

@@ -167,6 +167,75 @@ raises Unfit()
 >>> measure(wheel, ((), (), ()))
 raises Unfit()
 """,
+    "E4": r"""
+>>> from roomahead.rescues import homeward
+>>> len(homeward(fork, ((2,), (), (1,), ()))), homeward(fork, ((1,), (), (), ())), homeward(fork, ((), (), (), ()))
+(4, (('out', 0),), ())
+>>> homeward(wander, ((2,), (), ())), len(homeward(wander, ((2,), (2,), ())))
+((('on', 0, 2), ('out', 2)), 5)
+>>> homeward(wheel, ((2,), (0,), (1,))), len(homeward(wheel, ((2,), (0,), ()))), homeward(dead, ((2,),))
+(None, 4, None)
+""",
+    "F2": r"""
+>>> from roomahead.makers import circle, grid, nearest, one_way, up_down
+>>> grid(2, 1, 1), grid(1, 1, 2), circle(3, 2)
+((2, ((0, 1, 1), (1, 0, 1))), (1, ()), (3, ((0, 1, 2), (1, 2, 2), (2, 0, 2), (1, 0, 2), (2, 1, 2), (0, 2, 2))))
+>>> grid(2, 2, 3)
+(4, ((0, 1, 3), (1, 0, 3), (0, 2, 3), (2, 0, 3), (1, 3, 3), (3, 1, 3), (2, 3, 3), (3, 2, 3)))
+>>> len(grid(3, 2, 1)[1]), grid(3, 2, 1)[1][:6]
+(14, ((0, 1, 1), (1, 0, 1), (0, 3, 1), (3, 0, 1), (1, 2, 1), (2, 1, 1)))
+""",
+    "F3": r"""
+>>> nearest(3, ((0, 1, 1), (1, 2, 1), (2, 0, 1))) == wheel, nearest(2, ((0, 1, 1), (1, 0, 2))) == pair, nearest(3, ((0, 1, 1),))[2]
+(True, True, (((), (0,), ()), ((), (), ()), ((), (), ())))
+>>> nearest(*grid(2, 2, 1))[2]
+(((), (0,), (2,), (0, 2)), ((1,), (), (1, 4), (4,)), ((3,), (3, 6), (), (6,)), ((5, 7), (5,), (7,), ()))
+""",
+    "F4": r"""
+>>> up_down(*circle(3, 1), 0)[2], up_down(*circle(3, 1), 2)[2]
+((((), (0,), (0, 5)), ((3,), (), (1,)), ((2, 4), (2, 4), ())), (((), (0,), (5,)), ((1, 3), (), (1, 3)), ((2,), (2, 4), ())))
+>>> up_down(*grid(2, 2, 1), 0)[2]
+(((), (0,), (2,), (0, 2)), ((1,), (), (1,), (4,)), ((3,), (3,), (), (6,)), ((5, 7), (5, 7), (5, 7), ()))
+>>> up_down(2, ((0, 1, 1),), 0)
+raises Unfit()
+>>> up_down(3, ((0, 1, 1), (1, 0, 1)), 0)
+raises Unfit()
+""",
+    "F5": r"""
+>>> one_way(3, 2)
+(3, ((0, 1, 2), (1, 2, 2), (2, 0, 2), (0, 1, 2), (1, 2, 2), (2, 0, 2)), (((), (0,), (0,)), ((4,), (), (1,)), ((5,), (5,), ())))
+>>> one_way(2, 1)[2]
+(((), (0,)), ((3,), ()))
+""",
+    "G2": r"""
+>>> from roomahead.choices import addable, choices_left, mending, widest, with_choice, without_choice
+>>> choices_left(wheel), choices_left(fork), with_choice(fork, (1, 0, 1))[2], without_choice(fork, (1, 0, 3))[2]
+((), ((1, 0, 1), (1, 2, 3)), (((), (0,), (0,)), ((1, 3), (), (1,)), ((2,), (2,), ())), (((), (0,), (0,)), ((), (), (1,)), ((2,), (2,), ())))
+>>> with_choice(fork, (1, 0, 3))
+raises Unfit()
+>>> without_choice(fork, (1, True, 3))
+raises Unfit()
+""",
+    "G3": r"""
+>>> from roomahead.makers import circle, up_down
+>>> three = up_down(*circle(3, 1), 0)
+>>> addable(fork), widest(fork)[2], addable(three), widest(three)[2], choices_left(widest(three))
+(((1, 2, 3),), (((), (0,), (0,)), ((3,), (), (1, 3)), ((2,), (2,), ())), ((0, 1, 5), (1, 0, 1), (1, 2, 3)), (((), (0, 5), (0, 5)), ((1, 3), (), (1,)), ((2, 4), (2, 4), ())), ((1, 2, 3),))
+>>> addable(wheel)
+raises Unfit()
+""",
+    "G4": r"""
+>>> spoke, prong = (3, ((0, 1, 1), (1, 2, 1)), (((), (0,), (0,)), ((), (), ()), ((), (), ()))), (4, ((0, 1, 1), (1, 2, 1), (1, 3, 1)), (((), (0,), (0,), (0,)), ((), (), (), ()), ((), (), (), ()), ((), (), (), ())))
+>>> mending(spoke), mending(prong), mending(wheel), mending(fork)
+(((1, 2, 1),), ((1, 2, 1), (1, 3, 2)), None, ())
+""",
+    "G5": r"""
+>>> from roomahead.falls import risky, without
+>>> without(three, (5,))[2], risky(three), risky(widest(three)), risky(fork)
+((((), (0,), (0,)), ((3,), (), (1,)), ((2, 4), (2, 4), ())), (), (3, 4), ())
+>>> without(widest(three), (3,))[2]
+(((), (0, 5), (0, 5)), ((1,), (), (1,)), ((2, 4), (2, 4), ()))
+""",
 }
 
 
@@ -259,6 +328,33 @@ class Examples(unittest.TestCase):
 
     def test_e3_longest_measure_wayless(self):
         self.run_section("E3")
+
+    def test_e4_homeward(self):
+        self.run_section("E4")
+
+    def test_f2_grid_circle(self):
+        self.run_section("F2")
+
+    def test_f3_nearest(self):
+        self.run_section("F3")
+
+    def test_f4_up_down(self):
+        self.run_section("F4")
+
+    def test_f5_one_way(self):
+        self.run_section("F5")
+
+    def test_g2_choices(self):
+        self.run_section("G2")
+
+    def test_g3_addable_widest(self):
+        self.run_section("G3")
+
+    def test_g4_mending(self):
+        self.run_section("G4")
+
+    def test_g5_without_risky(self):
+        self.run_section("G5")
 
     def test_the_readme(self):
         readme = pathlib.Path(__file__).resolve().parent.parent / "README.md"

@@ -29,6 +29,16 @@ FUNCTIONS = {
         "ring": "net aim", "dead_ends": "net", "settles": "net", "longest": "net aim", "measure": "net stand",
         "wayless": "net",
     },
+    "rescues": {"homeward": "net stand"},
+    "makers": {
+        "grid": "wide high room", "circle": "houses room", "nearest": "houses lanes", "up_down": "houses lanes root",
+        "one_way": "houses room",
+    },
+    "choices": {
+        "choices_left": "net", "with_choice": "net choice", "without_choice": "net choice", "addable": "net",
+        "widest": "net", "mending": "net",
+    },
+    "falls": {"without": "net gone", "risky": "net"},
 }
 
 BOUNDS = {

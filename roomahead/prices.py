@@ -20,9 +20,9 @@ def _price_of_lanes(net, lanes):
 def cheapest_lot(net):
     """Return the lot of the least price, of these with the fewest lanes, of these the least one; () if there is none.
 
-    Sets of lanes are gone through by price, then by number of lanes, beginning with each lane alone. To a set that is
-    no lot come the lanes ahead of one of its lanes, for any one aim. So each set within which there is no lesser lot is
-    met, as each of its lanes has an aim that leads into the set alone; and a cheapest lot is such a set.
+    Sets of lanes are gone through by price, then by how many lanes they have, beginning with each lane alone. To a set
+    that makes no lot the lanes ahead of one of its lanes are added, for each aim in turn. As each lane of a lot has an
+    aim that leads into the lot alone, each lot with no lesser one in it is come to; and a cheapest lot is such a one.
     """
     asked = _asked_in_lots(net)
     queue = [(1, 1, (lane,)) for lane in asked]

@@ -132,6 +132,37 @@ def downhill_net(chance, houses=None, many=None):
     return (houses, lanes, tables)
 
 
+def led_net(chance, houses=None, many=None, room=3):
+    """A net in which all houses stand in a ring, and each table has one lane, by which letters come home."""
+    houses = chance.randint(2, 6) if houses is None else houses
+    many = chance.randint(houses, 16) if many is None else many
+    ring = chance.sample(range(houses), houses)
+    ends = [(ring[k - 1], ring[k]) for k in range(houses)]
+    ends += [tuple(chance.sample(range(houses), 2)) for _ in range(many - houses)]
+    lanes = tuple((*pair, chance.randint(1, room)) for pair in chance.sample(ends, many))
+    return (houses, lanes, led_tables(chance, houses, lanes))
+
+
+def led_tables(chance, houses, lanes):
+    """Tables of one lane at most, by which letters come home from wherever lanes lead there."""
+    tables = [[()] * houses for _ in range(houses)]
+    for d in range(houses):
+        near = {d}
+        while True:
+            nearing = [k for k, (start, end, _) in enumerate(lanes) if end in near and start not in near]
+            if not nearing:
+                break
+            lane = chance.choice(nearing)
+            tables[lanes[lane][0]][d] = (lane,)
+            near.add(lanes[lane][0])
+    return tuple(tuple(table) for table in tables)
+
+
+def led_nets(seed, many, houses=None, lanes=None):
+    chance = random.Random(seed)
+    return [led_net(chance, houses, lanes) for _ in range(many)]
+
+
 def net_with_entry(net, house, aim, entry):
     """The net with another entry in its tables."""
     table = net[2][house][:aim] + (entry,) + net[2][house][aim + 1:]
@@ -288,6 +319,190 @@ def plain_row_error(net, value):
         if not all(set(value[:place]) & set(plain_ahead(net, lane, aim)) for aim in plain_open(net, lane)):
             return ("lane", place)
     return None
+
+
+def exchanged(old, new, houses):
+    """The net in which these houses have the tables of new, all others those of old."""
+    return (*old[:2], tuple(new[2][u] if u in houses else old[2][u] for u in range(old[0])))
+
+
+def pairs_of_nets(seed, many, houses=6, lanes=16, part=0.3):
+    """Pairs of nets that are unlike in the tables of four houses at most; by this chance some letters don't come home.
+    """
+    chance = random.Random(seed)
+    found = []
+    for _ in range(many):
+        houses_now = chance.randint(2, houses)
+        old = led_net(chance, houses_now, chance.randint(min(houses_now + 1, lanes), lanes))
+        spoilt = chance.random() < part
+        tables = some_tables(chance, houses_now, old[1], 0.4, 1) if spoilt else led_tables(chance, houses_now, old[1])
+        among = chance.sample(range(houses_now), min(houses_now, chance.randint(1, 4)))
+        new = exchanged(old, (houses_now, old[1], tables), among)
+        found.append((new, old) if chance.random() < 0.5 else (old, new))
+    return found
+
+
+def great_pairs(seed, many):
+    """Pairs of nets of six houses and sixteen lanes, four houses changed; tables by which letters come home and others.
+    """
+    chance = random.Random(seed)
+    found = []
+    for k in range(many):
+        old = led_net(chance, 6, 16)
+        new = old
+        while len(plain_changed(old, new)) != 4:
+            tables = led_tables(chance, 6, old[1]) if k % 3 else some_tables(chance, 6, old[1], 0.5, 1)
+            new = exchanged(old, (6, old[1], tables), chance.sample(range(6), 4))
+        found.append((old, new))
+    return found
+
+
+def plain_changed(old, new):
+    return tuple(u for u in range(old[0]) if repr(old[2][u]) != repr(new[2][u]))
+
+
+def all_stages(old, new):
+    """All stages of a pair of nets."""
+    found = []
+    for parts in itertools.product(range(3), repeat=len(plain_changed(old, new))):
+        told = list(zip(plain_changed(old, new), parts))
+        found.append((tuple(u for u, part in told if part == 2), tuple(u for u, part in told if part > 0)))
+    return found
+
+
+def plain_stage_open(old, new, before, now, lane):
+    """The aims that the lane serves by the stage, without its end, by J2."""
+    start, end, _ = old[1][lane]
+    tables = [new] if start in before else [old, new] if start in now else [old]
+    return sorted({d for net in tables for d in range(net[0]) if lane in net[2][start][d]} - {end})
+
+
+def plain_stage_lots(old, new, before, now):
+    """All lots of a stage of nets with few lanes, ascending."""
+    fits = [[None] + plain_stage_open(old, new, before, now, lane) for lane in range(len(old[1]))]
+    tables = exchanged(old, new, now)
+    lots = []
+    for aims in itertools.product(*fits):
+        lanes = {lane for lane, aim in enumerate(aims) if aim is not None}
+        if lanes and all(set(plain_ahead(tables, lane, aims[lane])) <= lanes for lane in lanes):
+            lots.append(tuple((lane, aims[lane]) for lane in sorted(lanes)))
+    return sorted(lots)
+
+
+def plain_stage_lot(old, new, before, now):
+    """What stage_lot has to return: what is left of all lanes once those that are in no lot are taken away."""
+    tables, lanes = exchanged(old, new, now), set(range(len(old[1])))
+    while True:
+        held = {
+            lane: [
+                aim for aim in plain_stage_open(old, new, before, now, lane)
+                if set(plain_ahead(tables, lane, aim)) <= lanes
+            ]
+            for lane in lanes
+        }
+        if all(held.values()):
+            return tuple((lane, held[lane][0]) for lane in sorted(lanes))
+        lanes = {lane for lane in lanes if held[lane]}
+
+
+DESK = (2, ((0, 1, 1), (1, 0, 1)), (((), (0,)), ((1,), ())))
+FOUR_LANES = ((0, 1, 1), (1, 0, 1), (0, 1, 1), (1, 0, 1))
+THERE = (2, FOUR_LANES, (((), (0,)), ((1,), ())))
+HOME_AGAIN = (2, FOUR_LANES, (((), (2,)), ((3,), ())))
+MUTE = (2, FOUR_LANES, (((), ()), ((), ())))
+
+
+def ask_pairs(seed, many, houses=6, lanes=16, room=3):
+    """Asks and answers on the same lanes, so many pairs; in some of them no lane serves both."""
+    chance = random.Random(seed)
+    found = []
+    for k in range(many):
+        houses_now = chance.randint(2, houses)
+        net = led_net(chance, houses_now, chance.randint(houses_now, max(houses_now, lanes)), room)
+        lanes_now = range(len(net[1]))
+        # Lanes of asks, and lanes of answers: all of them, or parted.
+        parting = [chance.random() < 0.5 if k % 2 else None for _ in lanes_now]
+        both = []
+        for part in (True, False):
+            hidden = [lane for lane in lanes_now if parting[lane] is (not part)]
+            ends = [(0, 0, 1) if lane in hidden else net[1][lane] for lane in lanes_now]
+            tables = led_tables(chance, houses_now, ends)
+            if chance.random() < 0.3:
+                tables = some_tables(chance, houses_now, ends, 0.4, chance.randint(0, 1))
+                # What is hidden seems to go round at the house 0.
+                tables = tuple(tuple(tuple(i for i in entry if i not in hidden) for entry in table) for table in tables)
+            both.append((*net[:2], tables))
+        found.append(tuple(both))
+    return found
+
+
+def plain_letters(net):
+    """All letters of asks and answers, ascending."""
+    houses = range(net[0])
+    return [("answer", aim) for aim in houses] + [("ask", aim, back) for aim in houses for back in houses]
+
+
+def plain_serves_letter(asks, answers, lane, letter):
+    net = {"ask": asks, "answer": answers}[letter[0]]
+    return lane in net[2][net[1][lane][0]][letter[1]]
+
+
+def plain_ask_ahead(asks, answers, lane, letter):
+    """The lanes ahead of a letter by K1; None if it is home."""
+    end = asks[1][lane][1]
+    if letter in (("ask", end, end), ("answer", end)):
+        return None
+    if letter[0] == "ask" and letter[1] != end:
+        return asks[2][end][letter[1]]
+    return answers[2][end][letter[2] if letter[0] == "ask" else letter[1]]
+
+
+def plain_ask_deeds(asks):
+    """All deeds of asks and answers, ascending."""
+    lanes = range(len(asks[1]))
+    deeds = [("in", lane, letter) for lane in lanes for letter in plain_letters(asks)]
+    deeds += [("on", lane, other) for lane in lanes for other in lanes]
+    return sorted(deeds + [("out", lane) for lane in lanes])
+
+
+def plain_ask_done(asks, answers, stand, deed):
+    """The stand behind a deed by K2, None if it can't be done."""
+    lying = [list(row) for row in stand]
+    word, lane, *rest = deed
+    _, end, room = asks[1][lane]
+    if word == "in":
+        if not plain_serves_letter(asks, answers, lane, rest[0]) or len(lying[lane]) >= room:
+            return None
+        lying[lane].append(rest[0])
+    else:
+        if not lying[lane]:
+            return None
+        letter = lying[lane].pop(0)
+        ahead = plain_ask_ahead(asks, answers, lane, letter)
+        if word == "out":
+            if ahead is not None:
+                return None
+        else:
+            other, = rest
+            if other not in (ahead or ()) or len(lying[other]) >= asks[1][other][2]:
+                return None
+            lying[other].append(("answer", letter[2]) if letter[:2] == ("ask", end) else letter)
+    return tuple(tuple(row) for row in lying)
+
+
+def plain_ask_moves(asks, answers, stand):
+    moves = [deed for deed in plain_ask_deeds(asks) if deed[0] != "in"]
+    return [deed for deed in moves if plain_ask_done(asks, answers, stand, deed) is not None]
+
+
+def random_ask_stand(chance, asks, answers):
+    """Any stand of both; full lanes are met often."""
+    stand = []
+    for k, (_, _, room) in enumerate(asks[1]):
+        served = [letter for letter in plain_letters(asks) if plain_serves_letter(asks, answers, k, letter)]
+        many = chance.choice((0, room, chance.randint(0, room))) if served else 0
+        stand.append(tuple(chance.choice(served) for _ in range(many)))
+    return tuple(stand)
 
 
 def letters(stand):

@@ -236,6 +236,71 @@ raises Unfit()
 >>> without(widest(three), (3,))[2]
 (((), (0, 5), (0, 5)), ((1,), (), (1,)), ((2, 4), (2, 4), ()))
 """,
+    "H2": r"""
+>>> from roomahead.levels import bad_groups, fewest_levels, levelled, only
+>>> only(wheel, (0, 2))[2], bad_groups(wheel), bad_groups(fork)
+((((), (), (0,)), ((1,), (), (1,)), ((2,), (), ())), ((0, 1, 2),), ())
+>>> from roomahead.makers import grid, nearest
+>>> square = nearest(*grid(2, 2, 1))
+>>> bad_groups(square), bad_groups(spoke)
+(((0, 1, 2, 3),), ((2,),))
+""",
+    "H3": r"""
+>>> fewest_levels(wheel), fewest_levels(fork), fewest_levels(square)
+((0, 0, 1), (0, 0, 0), (0, 0, 0, 1))
+>>> levelled(wheel, (0, 0, 1))
+(3, ((0, 1, 1), (1, 2, 1), (2, 0, 1), (0, 1, 1), (1, 2, 1), (2, 0, 1)), (((), (0,), (3,)), ((1,), (), (4,)), ((2,), (2,), ())))
+>>> levelled(square, (0, 0, 0, 1))[2][3], levelled(fork, (0, 0, 0)) == fork
+(((5, 7), (5,), (7,), ()), True)
+>>> fewest_levels(spoke)
+raises Unfit()
+>>> levelled(square, (0, 1, 2, 0))
+raises TooMany(16)
+""",
+    "J3": r"""
+>>> from roomahead.stages import changed, stage_filling, stage_lot
+>>> six = ((0, 1, 1), (1, 2, 1), (2, 0, 1), (1, 0, 1), (2, 1, 1), (0, 2, 1))
+>>> old = (3, six, (((), (0,), (0,)), ((1,), (), (1,)), ((2,), (4,), ())))
+>>> new = (3, six, (((), (0,), (5,)), ((1,), (), (1,)), ((2,), (2,), ())))
+>>> changed(old, new), changed(old, old), [stage_lot(old, new, (), now) for now in ((), (0,), (2,))]
+((0, 2), (), [(), (), ((0, 2), (1, 0), (2, 1))])
+>>> stage_lot(old, new, (), (0, 2)), stage_lot(old, new, (0,), (0, 2)), stage_lot(old, new, (2,), (0, 2)), stage_lot(old, new, (0, 2), (0, 2))
+(((0, 2), (1, 0), (2, 1)), (), ((0, 2), (1, 0), (2, 1)), ())
+>>> stage_filling(old, new, (), (0, 2), ((0, 2), (1, 0), (2, 1)))
+((('in', 0, 2), ('in', 1, 0)), (('in', 2, 1),))
+>>> stage_filling(old, new, (2,), (0, 2), ((0, 2), (1, 0), (2, 1)))
+((('in', 0, 2), ('in', 1, 0)), (('in', 2, 1),))
+>>> stage_lot(old, new, (0,), ())
+raises Unfit()
+>>> stage_lot(old, new, (), (1,))
+raises Unfit()
+>>> changed(old, (3, six[:5], old[2]))
+raises Unfit()
+""",
+    "J4": r"""
+>>> from roomahead.exchanges import exchange_row, least_still, still_plan
+>>> straight = (3, six, (((), (0,), (5,)), ((1,), (), (1,)), ((2,), (4,), ())))
+>>> wrong = (3, six, (((), (0,), (0,)), ((1,), (), (1,)), ((2,), (2,), ())))
+>>> exchange_row(old, straight), least_still(old, straight), still_plan(old, straight), exchange_row(old, old), still_plan(old, old)
+((0,), 0, ((0,), (), ()), (), ((), (), ()))
+>>> exchange_row(old, new), least_still(old, new), still_plan(old, new) in (((0,), (2,), ()), ((), (0,), (2,)))
+(None, 1, True)
+>>> exchange_row(old, wrong), least_still(old, wrong), still_plan(old, wrong), stage_lot(old, wrong, (2,), (2,))
+(None, None, None, ((0, 2), (1, 0), (2, 1)))
+""",
+    "K2": r"""
+>>> from roomahead.askdeeds import ask_done, ask_moves, ask_stand_error, ask_stuck
+>>> desk = (2, ((0, 1, 1), (1, 0, 1)), (((), (0,)), ((1,), ())))
+>>> ask_moves(desk, desk, ((("ask", 1, 0),), ())), ask_done(desk, desk, ((("ask", 1, 0),), ()), ("on", 0, 1)), ask_moves(desk, desk, ((("ask", 1, 1),), ()))
+((('on', 0, 1),), ((), (('answer', 0),)), (('out', 0),))
+>>> both = ask_done(desk, desk, ((("ask", 1, 0),), ()), ("in", 1, ("ask", 0, 1)))
+>>> both, ask_moves(desk, desk, both), ask_stuck(desk, desk, both), ask_stuck(desk, desk, ((), ()))
+(((('ask', 1, 0),), (('ask', 0, 1),)), (), True, False)
+>>> [ask_stand_error(desk, desk, value) for value in (both, ((), (("answer", 0),)), ((), (("answer", 1),)), ((("ask", 1),), ()), ((),), ([], ()))]
+[None, None, ('lane', 1), ('lane', 0), 'form', ('lane', 0)]
+>>> ask_done(desk, desk, both, ("in", 0, ("answer", 1)))
+raises Refused(('in', 0, ('answer', 1)))
+""",
 }
 
 
@@ -355,6 +420,21 @@ class Examples(unittest.TestCase):
 
     def test_g5_without_risky(self):
         self.run_section("G5")
+
+    def test_h2_bad_groups(self):
+        self.run_section("H2")
+
+    def test_h3_fewest_levels_levelled(self):
+        self.run_section("H3")
+
+    def test_j3_stages(self):
+        self.run_section("J3")
+
+    def test_j4_rows_and_plans(self):
+        self.run_section("J4")
+
+    def test_k2_askdeeds(self):
+        self.run_section("K2")
 
     def test_the_readme(self):
         readme = pathlib.Path(__file__).resolve().parent.parent / "README.md"

@@ -39,6 +39,15 @@ FUNCTIONS = {
         "widest": "net", "mending": "net",
     },
     "falls": {"without": "net gone", "risky": "net"},
+    "levels": {"only": "net group", "bad_groups": "net", "fewest_levels": "net", "levelled": "net told"},
+    "stages": {
+        "changed": "old new", "stage_lot": "old new before now", "stage_filling": "old new before now lot",
+    },
+    "exchanges": {"exchange_row": "old new", "least_still": "old new", "still_plan": "old new"},
+    "askdeeds": {
+        "ask_stand_error": "asks answers value", "ask_done": "asks answers stand deed",
+        "ask_moves": "asks answers stand", "ask_stuck": "asks answers stand",
+    },
 }
 
 BOUNDS = {

@@ -1,5 +1,7 @@
 """What kind of value a value is, and which integer a word tells: asked by several modules."""
 
+LONGEST_NAME = 12
+
 
 def is_integer(value):
     """Return whether value is an integer."""
@@ -10,6 +12,13 @@ def is_integer(value):
 def within(value, least, greatest):
     """Return whether value is an integer from least to greatest."""
     return is_integer(value) and least <= value <= greatest
+
+
+def is_name(value):
+    """Return whether value is a name, as nets are kept under."""
+    if not isinstance(value, str) or not 1 <= len(value) <= LONGEST_NAME:
+        return False
+    return all(["a" <= sign <= "z" for sign in value])
 
 
 def is_tuple_of(value, many):

@@ -49,7 +49,7 @@ def spoilt_letters(letter):
     yield from (list(letter), letter[:-1], letter[1:], letter + (0,), letter + (letter[-1],), (letter,), letter[:1], ())
     yield from ((word,) + letter[1:] for word in ("in", "Ask", "asks", "", "answers", None, 0, True, ("ask",), ["ask"]))
     for place in range(1, len(letter)):
-        for house in (True, False, -1, 6, 10 ** 399, -(10 ** 399), None, "0", (letter[place],), [letter[place]]):
+        for house in (True, False, -1, 1, 2, 3, 4, 6, 10 ** 399, -(10 ** 399), None, "0", (letter[place],), [letter[place]]):
             yield letter[:place] + (house,) + letter[place + 1:]
 
 

@@ -290,6 +290,7 @@ raises Unfit()
 """,
     "K2": r"""
 >>> from roomahead.askdeeds import ask_done, ask_moves, ask_stand_error, ask_stuck
+>>> from roomahead.asklots import apart, ask_filling, ask_free, ask_lot
 >>> desk = (2, ((0, 1, 1), (1, 0, 1)), (((), (0,)), ((1,), ())))
 >>> ask_moves(desk, desk, ((("ask", 1, 0),), ())), ask_done(desk, desk, ((("ask", 1, 0),), ()), ("on", 0, 1)), ask_moves(desk, desk, ((("ask", 1, 1),), ()))
 ((('on', 0, 1),), ((), (('answer', 0),)), (('out', 0),))
@@ -300,6 +301,78 @@ raises Unfit()
 [None, None, ('lane', 1), ('lane', 0), 'form', ('lane', 0)]
 >>> ask_done(desk, desk, both, ("in", 0, ("answer", 1)))
 raises Refused(('in', 0, ('answer', 1)))
+""",
+    "K3": r"""
+>>> ask_lot(desk, desk), ask_free(desk, desk), apart(desk, desk), ask_filling(desk, desk, ask_lot(desk, desk))
+(((0, ('ask', 1, 0)), (1, ('ask', 0, 1))), False, False, (('in', 0, ('ask', 1, 0)), ('in', 1, ('ask', 0, 1))))
+>>> four = ((0, 1, 1), (1, 0, 1), (0, 1, 1), (1, 0, 1))
+>>> there, home_again, mute = (2, four, (((), (0,)), ((1,), ()))), (2, four, (((), (2,)), ((3,), ()))), (2, four, (((), ()), ((), ())))
+>>> ask_free(there, home_again), apart(there, home_again), ask_lot(there, home_again)
+(True, True, ())
+>>> ask_lot(there, mute), apart(there, mute), ask_free(mute, there)
+(((0, ('ask', 1, 0)), (1, ('ask', 0, 1))), True, True)
+>>> ask_free(desk, there)
+raises Unfit()
+""",
+    "L3": r"""
+>>> from roomahead.beats import homecomings, state_at
+>>> some = ((0, 0, 1), (0, 0, 1), (0, 1, 0), (2, 0, 1))
+>>> homecomings(pair, some, "low"), [state_at(pair, some, "low", beat) for beat in range(4)]
+((1, 2, 1, 3), [((0,), (2,)), ((1,), ()), ((3,), ()), ((), ())])
+>>> at_once, one_by_one = ((0, 0, 2), (0, 1, 0), (0, 2, 1)), ((0, 0, 2), (1, 1, 0), (2, 2, 1))
+>>> homecomings(wheel, at_once, "low"), state_at(wheel, at_once, "low", 7), homecomings(wheel, one_by_one, "low"), homecomings(fork, at_once, "low")
+((None, None, None), ((0,), (1,), (2,)), (2, 5, 4), (2, 1, 2))
+>>> [state_at(wheel, one_by_one, "low", beat) for beat in range(5)]
+[((0,), (), ()), ((), (0,), ()), ((), (1,), (2,)), ((2,), (1,), ()), ((), (), (1,))]
+>>> street = (3, ((0, 1, 1), (1, 0, 1), (1, 2, 1), (2, 1, 1)), (((), (0,), (0,)), ((1,), (), (2,)), ((3,), (3,), ())))
+>>> crowd = ((0, 0, 2), (0, 0, 2), (0, 1, 2), (0, 1, 2))
+>>> homecomings(street, crowd, "low"), homecomings(street, crowd, "eldest")
+((4, 6, 1, 2), (4, 5, 1, 2))
+""",
+    "M2": r"""
+>>> from roomahead.benches import Bench, bench_behind
+>>> b = Bench()
+>>> [b.put("round", wheel), b.put("fork", fork), b.way("fork", 1, 0, 1), b.names, b.version, b.net("fork")[2][1]]
+[1, 2, 3, ('fork', 'round'), 3, ((1, 3), (), (1,))]
+>>> b.put("round", fork)
+raises Taken('round')
+>>> b.put("Round", fork)
+raises Unfit()
+>>> b.put("other", wheel[:2])
+raises BadNet('form')
+>>> b.way("fork", 1, 0, 1)
+raises Unfit()
+>>> b.room("round", 3, 1)
+raises Unfit()
+>>> b.drop("wheel")
+raises NoNet('wheel')
+>>> [b.undo(), b.undo(), b.names, b.redo(), b.net("fork") == fork, b.log[1], b.at(1) == (("round", wheel),)]
+[2, 1, ('round',), 2, True, ('put', ('fork', (3, ((0, 1, 1), (1, 2, 1), (2, 0, 1), (1, 0, 1)), (((), (0,), (0,)), ((3,), (), (1,)), ((2,), (2,), ()))))), True]
+>>> bench_behind(b.log) == b, bench_behind(b.log[:1]) == b, b == 2, bench_behind(()).names
+(True, False, False, ())
+>>> bench_behind((("put", ("a", wheel)), ("drop", ("b",))))
+raises BadLog(1)
+>>> b.at(3)
+raises NoVersion(3)
+""",
+    "M3": r"""
+>>> [b.judged, b.free("fork"), b.most("fork"), b.judged, b.free("round"), b.most("round"), b.judged]
+[0, True, None, 1, False, 2, 2]
+>>> [b.way("fork", 1, 0, 1), b.free("fork"), b.judged, b.undo(), b.free("fork"), b.judged, b.put("again", fork), b.most("again"), b.judged]
+[3, False, 3, 2, True, 3, 3, None, 3]
+>>> c = b.copy()
+>>> [c.judged, c.room("round", 0, 4), c.most("round"), c.judged, b.judged, b.most("round"), c == b, c.undo(), c == b]
+[3, 4, 5, 4, 3, 2, False, 3, True]
+""",
+    "M4": r"""
+>>> from roomahead.shells import Shell
+>>> s = Shell()
+>>> [s.say(line) for line in ("names", "put a houses 2", "put b houses 2\nlane 0 1 1\nlane 1 0 2\nway 0 1: 0\nway 1 0: 1", "names", "free b", "most b", "lot b", "judged")]
+['none', 'version 1', 'version 2', 'a b', 'free', 'any', 'none', '1']
+>>> [s.say(line) for line in ("play b in 0 1; out 0", "play b in 0 1; in 0 1", "play b in 0 1; in 1 0", "play b none", "play b in 0", "play c none", "way b 0 1 0", "way b 0 1 1", "room b 0 4", "show b")]
+['empty', 'refused 1', 'going', 'empty', 'error BadText', 'error NoNet', 'error Unfit', 'error Unfit', 'version 3', 'houses 2\nlane 0 1 4\nlane 1 0 2\nway 0 1: 0\nway 1 0: 1']
+>>> [s.say(line) for line in ("put a houses 2", "put a houses 02", "put A houses 2", "drop  a", "undo", "undo", "undo", "undo", "redo", "Names", 5)]
+['error Taken', 'error BadText', 'what', 'what', 'version 2', 'version 1', 'version 0', 'error NothingToUndo', 'version 1', 'what', 'what']
 """,
 }
 
@@ -316,13 +389,14 @@ def calls(section):
 
 
 def names_ahead(section):
-    """The names that the examples ahead of this section set."""
+    """The names that the examples ahead of this section set, and benches as these left them."""
     names = {}
     for other in EXAMPLES:
         if other == section:
             return names
         for call, told in calls(other):
-            if told == "":
+            # What raises changes nothing.
+            if not told.startswith("raises "):
                 exec(call, names)
 
 
@@ -435,6 +509,21 @@ class Examples(unittest.TestCase):
 
     def test_k2_askdeeds(self):
         self.run_section("K2")
+
+    def test_k3_asklots(self):
+        self.run_section("K3")
+
+    def test_l3_beats(self):
+        self.run_section("L3")
+
+    def test_m2_benches(self):
+        self.run_section("M2")
+
+    def test_m3_judgements(self):
+        self.run_section("M3")
+
+    def test_m4_shells(self):
+        self.run_section("M4")
 
     def test_the_readme(self):
         readme = pathlib.Path(__file__).resolve().parent.parent / "README.md"

@@ -48,7 +48,25 @@ FUNCTIONS = {
         "ask_stand_error": "asks answers value", "ask_done": "asks answers stand deed",
         "ask_moves": "asks answers stand", "ask_stuck": "asks answers stand",
     },
+    "asklots": {
+        "ask_free": "asks answers", "ask_lot": "asks answers", "ask_filling": "asks answers lot",
+        "apart": "asks answers",
+    },
+    "beats": {"homecomings": "net traffic rule", "state_at": "net traffic rule beat"},
+    "benches": {"bench_behind": "log"},
 }
+
+METHODS = {
+    "benches": {
+        "Bench": {
+            "net": "name", "put": "name net", "drop": "name", "way": "name house aim lane", "bar": "name house aim lane",
+            "room": "name lane room", "undo": "", "redo": "", "at": "version", "copy": "", "free": "name",
+            "paper": "name", "most": "name", "__eq__": "other",
+        },
+    },
+    "shells": {"Shell": {"say": "line"}},
+}
+ATTRIBUTES = {"Bench": "names version log judged"}
 
 BOUNDS = {
     "MAX_HOUSES": 6, "MAX_LANES": 16, "MAX_ROOM": 4, "MAX_DEEDS": 400, "MAX_MET": 300, "MAX_CHOICES": 16,
@@ -76,6 +94,32 @@ class Functions(unittest.TestCase):
                     for parameter in parameters.values():
                         self.assertEqual(parameter.kind, parameter.POSITIONAL_OR_KEYWORD)
                         self.assertIs(parameter.default, parameter.empty)
+
+
+class Classes(unittest.TestCase):
+
+    def test_each_is_defined_in_its_file_with_its_methods(self):
+        for name, classes in METHODS.items():
+            module = importlib.import_module(f"roomahead.{name}")
+            for kind, methods in classes.items():
+                told = getattr(module, kind)
+                self.assertIsInstance(told, type)
+                self.assertEqual(told.__module__, f"roomahead.{name}")
+                for method, arguments in methods.items():
+                    with self.subTest(kind=kind, method=method):
+                        parameters = inspect.signature(vars(told)[method]).parameters
+                        self.assertEqual(list(parameters)[1:], arguments.split())
+                        for parameter in parameters.values():
+                            self.assertEqual(parameter.kind, parameter.POSITIONAL_OR_KEYWORD)
+                            self.assertIs(parameter.default, parameter.empty)
+
+    def test_each_is_made_of_nothing_and_has_its_attributes(self):
+        for name, classes in METHODS.items():
+            for kind in classes:
+                told = getattr(importlib.import_module(f"roomahead.{name}"), kind)
+                self.assertEqual(list(inspect.signature(told).parameters), [])
+                for attribute in ATTRIBUTES.get(kind, "").split():
+                    self.assertTrue(hasattr(told(), attribute))
 
 
 class Bounds(unittest.TestCase):

@@ -2,7 +2,7 @@
 
 import unittest
 
-from roomahead.kinds import is_deed, is_integer, is_tuple_of, number_told, within
+from roomahead.kinds import is_deed, is_integer, is_name, is_tuple_of, number_told, within
 from tests.helper import WRONG_VALUES, result
 
 
@@ -20,6 +20,14 @@ class Kinds(unittest.TestCase):
             self.assertIs(result(within, value, 2, 1), False)
         for value in WRONG_VALUES:
             self.assertIs(result(within, value, 0, 1), repr(value) in ("0", "1"))
+
+    def test_is_name(self):
+        for value in ("a", "z", "in", "abcdefghijkl", "z" * 12):
+            self.assertIs(result(is_name, value), True)
+        for value in ("", "A", "a1", "a b", "a\n", "`", "{", "\u00e4", "a" * 13, "a" * 20000, ["a"], ("a",), b"a"):
+            self.assertIs(result(is_name, value), False)
+        for value in WRONG_VALUES:
+            self.assertIs(result(is_name, value), type(value) is str and value.isalpha())
 
     def test_is_tuple_of(self):
         for many in range(4):
@@ -44,6 +52,8 @@ class Kinds(unittest.TestCase):
                     self.assertIs(is_deed(("on", lane, other), lanes, houses), good and 0 <= other < lanes)
                     self.assertIs(is_deed(("out", lane), lanes, houses), good)
         for value in WRONG_VALUES:
+            self.assertIs(result(is_deed, value, 16, 6), False)
+        for value in (("in", 0), ("in", 0, 0, 0), ("on", 0), ("on", 0, 1, 2), ("out",), ("out", 0, 0), ("In", 0, 0)):
             self.assertIs(result(is_deed, value, 16, 6), False)
 
 
